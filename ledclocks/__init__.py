@@ -1,0 +1,1 @@
+"""Ledclocks: clocks that drift, led by letters that take a while."""
