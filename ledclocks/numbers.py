@@ -1,4 +1,4 @@
-"""NUMBERS and WORDS, by kind alone."""
+"""NUMBERS and WORDS, by kind alone, and rows of things that rise."""
 
 SMALL_LETTERS = "abcdefghijklmnopqrstuvwxyz"
 LONGEST_WORD = 8
@@ -14,3 +14,13 @@ def is_word(thing):
     if not isinstance(thing, str) or not 1 <= len(thing) <= LONGEST_WORD:
         return False
     return all([sign in SMALL_LETTERS for sign in thing])
+
+
+def is_count(thing):
+    """Whether thing is a NUMBER from 0 on."""
+    return is_number(thing) and thing >= 0
+
+
+def rises(things):
+    """Whether each of a row of things of one kind is above the one ahead."""
+    return all([one < other for one, other in zip(things, things[1:])])

@@ -2,6 +2,9 @@
 
 from ledclocks.numbers import is_number
 
+NOUGHT = (0, 1)
+ONE = (1, 1)
+
 
 def is_fraction(thing):
     """Whether thing is a FRACTION."""
@@ -67,3 +70,11 @@ def greatest_of(fractions):
         if greatest is None or is_below(greatest, fraction):
             greatest = fraction
     return greatest
+
+
+def common_unit(fractions):
+    """A NUMBER above 0 that makes each of a list of FRACTIONS whole, times it; the least."""
+    unit = 1
+    for fraction in fractions:
+        unit = unit // common_divisor(unit, fraction[1]) * fraction[1]
+    return unit

@@ -167,3 +167,23 @@ def source_stamps(history):
         if event[0] == field[2]:
             return (number_of(event[1]), number)
     return None
+
+
+def oracle_steps(history):
+    """The STEPS by [4], with Fractions."""
+    (houses, links, source), events = history
+    drifts = {name: (number_of(slow), number_of(fast)) for name, slow, fast in houses}
+    steps = []
+    for y, (name, stamp, deed) in enumerate(events):
+        ahead = [x for x in range(y) if events[x][0] == name]
+        if ahead:
+            slow, fast = drifts[name]
+            gone = number_of(stamp) - number_of(events[ahead[-1]][1])
+            steps.append((ahead[-1], y, pair_of(gone / slow)))
+            steps.append((y, ahead[-1], pair_of(-gone / fast)))
+        if deed[0] == "hear":
+            link = links[events[deed[1]][2][1]]
+            if link[3] is not None:
+                steps.append((deed[1], y, link[3]))
+            steps.append((y, deed[1], pair_of(-number_of(link[2]))))
+    return tuple(steps)
