@@ -6,6 +6,11 @@ def follows_of(state):
     return tuple([(name, best[2]) for name, best, heard in state if best is not None and best[2] != name])
 
 
+def leaders_of(state):
+    """The NAMES of the members of a STATE that are up and have themselves as their BEST."""
+    return tuple([name for name, best, heard in state if best is not None and best[2] == name])
+
+
 def follow_ring(pairs):
     """The RING of FOLLOWS with the least NAME that is in one, begun with it; None of none."""
     leads = {name: who for name, who in pairs}

@@ -1,7 +1,7 @@
 """KEPT pairs: what each house keeps of the SOURCE TIME in passing, and papers of them."""
 
 from ledclocks.moves import history_moves
-from ledclocks.ratios import added, greatest_of, is_below, least_of
+from ledclocks.ratios import added_told, greatest_of, is_below, least_of
 
 
 def kept_pairs(history):
@@ -30,9 +30,7 @@ def ends_told(moves, pairs, side):
 def moved_end(move, pairs, side):
     """One end of the pair where the move begins, carried along it, or None."""
     x, bounds = move
-    if pairs[x][side] is None or bounds[side] is None:
-        return None
-    return added(pairs[x][side], bounds[side])
+    return added_told(pairs[x][side], bounds[side])
 
 
 def first_void(history):

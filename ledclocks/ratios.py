@@ -34,6 +34,11 @@ def added(one, other):
     return ratio(one[0] * other[1] + other[0] * one[1], one[1] * other[1])
 
 
+def added_told(one, other):
+    """One and other, FRACTIONS or None, added; None where either is."""
+    return None if one is None or other is None else added(one, other)
+
+
 def less(one, other):
     """The FRACTION one with other taken away."""
     return ratio(one[0] * other[1] - other[0] * one[1], one[1] * other[1])

@@ -4,8 +4,8 @@ All times begin alike, and go down by STEPS until nothing turns: then they FIT. 
 for that, unless a RING of a SUM below 0 draws them down for ever; the STEPS by which times came last then go round.
 """
 
-from ledclocks.ratios import common_unit, ratio
-from ledclocks.stepping import history_steps
+from ledclocks.ratios import ratio
+from ledclocks.stepping import history_steps, whole_steps
 
 
 def ring_of(history):
@@ -17,9 +17,8 @@ def ring_of(history):
 def world_or_ring(history):
     """("world", WORLD), any that FITS, or ("ring", RING), any that bars all WORLDS."""
     steps = history_steps(history)
-    # Whole numbers are quickly added; the times are parted by the unit again at the end.
-    unit = common_unit([w for x, y, w in steps])
-    whole = [(x, y, w[0] * (unit // w[1])) for x, y, w in steps]
+    # The times are parted by the unit again at the end.
+    unit, whole = whole_steps(steps)
     moments = [0 for event in history[1]]
     came_by = [None for event in history[1]]
     turned = go_down(whole, moments, came_by)
@@ -39,11 +38,14 @@ def go_down(whole, moments, came_by):
 
 
 def go_over(whole, moments, came_by):
-    """Takes times down by each STEP once; told is the last EVENT whose time turned, None where none did."""
+    """Takes times down by each STEP once; told is the last EVENT whose time turned, None where none did.
+
+    A time that is None is not known yet: it tells nothing, and any other one is less.
+    """
     turned = None
     for number, step in enumerate(whole):
         x, y, w = step
-        if moments[x] + w < moments[y]:
+        if moments[x] is not None and (moments[y] is None or moments[x] + w < moments[y]):
             moments[y] = moments[x] + w
             came_by[y] = number
             turned = y

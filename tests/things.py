@@ -5,6 +5,8 @@ The makers take a random.Random with a seed of the test's own, so that each run 
 
 from fractions import Fraction
 
+from ledclocks.errors import ClockError, LackError
+
 ODD_THINGS = (
     None, True, False, 0, 1, -1, 2, 10 ** 59, -(10 ** 59), "", " ", "a", "ann", "Ann", "abcdefgh", "abcdefghi", "1",
     [], (), [1], (1,), [1, 2], (None,), (True,), (1, 2, 3), ((),), [[]], ([],), ((), ()), ([], []), ((), (), ()),
@@ -187,3 +189,76 @@ def oracle_steps(history):
                 steps.append((deed[1], y, link[3]))
             steps.append((y, deed[1], pair_of(-number_of(link[2]))))
     return tuple(steps)
+
+
+def oracle_reach(history):
+    """REACH of all pairs by [5], with Fractions, a list of lists; None where some RING is below 0."""
+    many = len(history[1])
+    table = [[Fraction(0) if x == y else None for y in range(many)] for x in range(many)]
+    for x, y, w in oracle_steps(history):
+        table[x][y] = number_of(w) if table[x][y] is None else min(table[x][y], number_of(w))
+    for mid in range(many):
+        for x in range(many):
+            for y in range(many):
+                if table[x][mid] is not None and table[mid][y] is not None:
+                    far = table[x][mid] + table[mid][y]
+                    table[x][y] = far if table[x][y] is None else min(table[x][y], far)
+    return None if [x for x in range(many) if table[x][x] < 0] else table
+
+
+def told_of(fraction):
+    """A Fraction as the FRACTION it is, None left as it is."""
+    return None if fraction is None else pair_of(fraction)
+
+
+def way_sum(history, x, y, way):
+    """The SUM of a WAY from x to y by [5], a Fraction; fails where it is none."""
+    steps = oracle_steps(history)
+    assert type(way) is tuple, way
+    at = x
+    total = Fraction(0)
+    for number in way:
+        assert type(number) is int and 0 <= number < len(steps) and steps[number][0] == at, way
+        at = steps[number][1]
+        total += number_of(steps[number][2])
+    assert at == y, way
+    return total
+
+
+def bars(history, ring):
+    """Whether a thing is a RING of a SUM below 0."""
+    if type(ring) is not tuple or not ring:
+        return False
+    start = oracle_steps(history)[ring[0]][0]
+    return way_sum(history, start, start, ring) < 0
+
+
+def oracle_heard(history, number):
+    """What an EVENT HAS HEARD by [6], a sorted list."""
+    events = history[1]
+    found = {number}
+    while True:
+        more = set(found)
+        for k in found:
+            more.update([x for x in range(k) if events[x][0] == events[k][0]][-1:])
+            more.update(events[k][2][1:] if events[k][2][0] == "hear" else [])
+        if more == found:
+            return sorted(found)
+        found = more
+
+
+def refusal_of(call, *given, **named):
+    """The class and the fields of the refusal of a call, a tuple; None where it isn't refused."""
+    try:
+        call(*given, **named)
+    except (ClockError, LackError) as refused:
+        return (type(refused),) + tuple(vars(refused).values())
+    return None
+
+
+def bent_twice(rng, thing, many):
+    """Things that are bent at two places, so many of them drawn."""
+    once = list(bent(thing))
+    for trial in range(many):
+        twice = list(bent(rng.choice(once)))
+        yield rng.choice(twice)
