@@ -35,15 +35,17 @@ def do(court, row):
 
 def random_head(rng):
     members, wires = random_net(rng)
-    return ("court", random_field(rng, houses=rng.randint(1, 4)), members, wires, rng.randint(0, 6), rng.randint(0, 3))
+    field = random_field(rng, houses=rng.randint(1, 4))
+    return ("court", field, members, wires, rng.randint(0, 6), rng.randint(0, 3))
 
 
-def random_deeds(rng, head, many):
-    """Rows that are done, none of them refused."""
+def random_deeds(rng, head, many, short=False):
+    """Rows that are done, none of them refused; short keeps the figures of stamps to nine."""
     word, field, members, wires, most, age = head
-    maker = true_history if rng.random() < 0.6 else wild_history
-    made = maker(rng, field, many)
-    events = list(made[0][1] if maker is true_history else made[1])
+    if short or rng.random() < 0.4:
+        events = list(wild_history(rng, field, many)[1])
+    else:
+        events = list(true_history(rng, field, many)[0][1])
     rows = []
     while len(rows) < many:
         choice = rng.random()
@@ -59,9 +61,9 @@ def random_deeds(rng, head, many):
     return tuple(rows)
 
 
-def random_log(rng, many=None):
+def random_log(rng, many=None, short=False):
     head = random_head(rng)
-    return (head,) + random_deeds(rng, head, rng.randint(0, 25) if many is None else many)
+    return (head,) + random_deeds(rng, head, rng.randint(0, 25) if many is None else many, short)
 
 
 def all_told(court):

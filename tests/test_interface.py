@@ -16,6 +16,11 @@ FUNCTIONS = {
     "sourcing": ("by_heard(history, event)",),
     "coverchecker": ("lets_cover(spans, thing, *, liars=0)",),
     "texts": ("row_line(row)", "log_lines(log)"),
+    "histories": ("is_history(thing)", "event_lacks(history, thing)", "put_on(history, thing)"),
+    "letters": ("house_events(history, name)", "heard_letters(history)", "lost_letters(history)"),
+    "keptchecker": ("lets_kept(history, event, thing)",),
+    "followchecker": ("lets_follow_ring(pairs, thing)",),
+    "readings": ("read_row(text)", "read_log(lines)"),
 }
 CLASSES = {
     "court": {"Court": ("__init__(self, field, members, wires, *, most=4, age=1)", "note(self, house, stamp, deed)",
@@ -25,6 +30,7 @@ CLASSES = {
                         "agreed(self, events, *, liars=0)", "log(self)", "__len__(self)", "__str__(self)",
                         "__eq__(self, other)", "__ne__(self, other)", "elder(self, k)", "undo(self)",
                         "do_all(self, deeds, *, keep=False)", "walks(self)")},
+    "desk": {"Desk": ("__init__(self)", "say(self, row)")},
 }
 
 
