@@ -92,11 +92,11 @@ def number_read(word):
 def fraction_read(word):
     """The FRACTION that a word writes, None where it writes none."""
     above, slash, below = word.partition("/")
-    a = number_read(above)
-    b = 1 if slash == "" else number_read(below)
-    if a is None or b is None or slash != "" and b == 1:
+    fraction = (number_read(above), 1 if slash == "" else number_read(below))
+    # A whole FRACTION is written without a slash, so that each has one text alone.
+    if not is_fraction(fraction) or slash != "" and fraction[1] == 1:
         return None
-    return (a, b) if is_fraction((a, b)) else None
+    return fraction
 
 
 def read_row(text):

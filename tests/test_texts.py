@@ -36,6 +36,8 @@ class TestRowLine(unittest.TestCase):
         # Longer than Python itself would write.
         told = row_line(("note", "ann", (10 ** 9000 + 1, 2), ("mark",)))
         self.assertEqual(told, "note ann 1" + "0" * 8999 + "1/2 mark")
+        told = row_line(("note", "ann", (-(10 ** 9000), 1), ("mark",)))
+        self.assertEqual(told, "note ann -1" + "0" * 9000 + " mark")
 
     def test_by_name(self):
         self.assertEqual(row_line(row=("round",)), "round")
