@@ -2,7 +2,7 @@
 
 from ledclocks.errors import NoPaper
 from ledclocks.majorities import ends_held, is_in, many_open
-from ledclocks.numbers import is_number
+from ledclocks.numbers import are_numbers
 from ledclocks.ratios import is_below, is_fraction
 
 
@@ -32,10 +32,6 @@ def is_cover_shape(thing):
 
 def is_end(thing):
     return thing is None or is_fraction(thing)
-
-
-def are_numbers(thing):
-    return isinstance(thing, tuple) and all([is_number(number) for number in thing])
 
 
 def bar_numbers(spans, cover, side):

@@ -1,8 +1,8 @@
 """A desk: it answers rows, any texts, with texts."""
 
-from ledclocks.court import Court
 from ledclocks.errors import NoRow, NoText
 from ledclocks.readings import DEEDS, Line, read_log, read_row
+from ledclocks.replaying import replayed
 from ledclocks.texts import line_of, row_line, word_of
 
 PLAIN_ROWS = ("undo", "count", "log", "stands", "follows", "leaders")
@@ -28,7 +28,7 @@ class Desk:
         """Does what is asked, or tells it."""
         word = asked[0]
         if word == "court":
-            self.court = court_made(asked[1])
+            self.court = replayed(asked[1])
             return "ok"
         if word == "deed":
             told = self.court.do_row(asked[1])
@@ -45,7 +45,7 @@ def asked_by(row):
     line = Line(0, row)
     word = line.take()
     if word == "court":
-        return (word, head_alone(row))
+        return (word, log_alone(row))
     if word in DEEDS:
         return ("deed", read_row(row))
     rest = rest_read(line, word)
@@ -53,12 +53,12 @@ def asked_by(row):
     return (word, *rest)
 
 
-def head_alone(row):
-    """The first row of the LOG whose lines, up to its wires, a row writes."""
+def log_alone(row):
+    """The LOG, of no deeds, whose lines, up to its wires, a row writes."""
     log = read_log(row.split(" / "))
     if len(log) > 1:
         raise NoText(0, 0)
-    return log[0]
+    return log
 
 
 def rest_read(line, word):
@@ -71,12 +71,6 @@ def rest_read(line, word):
         return [line.take_name()]
     line.need(word in PLAIN_ROWS)
     return []
-
-
-def court_made(head):
-    """A new COURT of the first row of a LOG."""
-    word, field, members, wires, most, age = head
-    return Court(field, members, wires, most=most, age=age)
 
 
 def net_told(court, asked):

@@ -2,7 +2,7 @@
 
 from ledclocks.errors import NoPaper
 from ledclocks.moves import history_moves
-from ledclocks.numbers import is_number
+from ledclocks.numbers import are_numbers
 from ledclocks.ratios import added
 
 
@@ -18,9 +18,7 @@ def lets_kept(history, event, thing):
 
 def is_chain_shape(thing):
     """Whether thing is None or a tuple of one NUMBER or more."""
-    if thing is None:
-        return True
-    return isinstance(thing, tuple) and len(thing) > 0 and all([is_number(number) for number in thing])
+    return thing is None or are_numbers(thing) and len(thing) > 0
 
 
 def chain_end(history, rows, event, chain, side):

@@ -21,6 +21,11 @@ def is_count(thing):
     return is_number(thing) and thing >= 0
 
 
+def are_numbers(thing):
+    """Whether thing is a tuple of NUMBERS."""
+    return isinstance(thing, tuple) and all([is_number(number) for number in thing])
+
+
 def rises(things):
     """Whether each of a row of things of one kind is above the one ahead."""
     return all([one < other for one, other in zip(things, things[1:])])

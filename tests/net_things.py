@@ -71,6 +71,47 @@ def oracle_round(net, state, wires, most, age):
     return tuple(rows)
 
 
+def random_up(rng, net):
+    """Some, none or all members of a NET, and some, none or all of its wires."""
+    share = rng.choice((0, 0.3, 0.6, 0.8, 0.9, 1, 1))
+    up = tuple([member[0] for member in net[0] if rng.random() < share])
+    share = rng.choice((0, 0.4, 0.7, 0.9, 1, 1))
+    return (up, tuple([wire for wire in net[1] if rng.random() < share]))
+
+
+def oracle_steps_apart(up, wires):
+    """The fewest wires between each two of up, a dict; by all ways of going on, a step more each time."""
+    apart = {(name, name): 0 for name in up}
+    live = [wire for wire in wires if wire[0] in up and wire[1] in up]
+    for steps in range(1, len(up) + 1):
+        for (one, other), before in list(apart.items()):
+            for wire in live:
+                for here, there in (wire, wire[::-1]):
+                    if other == here and before == steps - 1 and (one, there) not in apart:
+                        apart[(one, there)] = steps
+    return apart
+
+
+def oracle_pieces(up, wires):
+    """PIECES by [59]."""
+    apart = oracle_steps_apart(up, wires)
+    return tuple(sorted(set([tuple(sorted([other for one, other in apart if one == name])) for name in up])))
+
+
+def oracle_tree(net, up, wires):
+    """The TREE PAPER by [60]."""
+    apart = oracle_steps_apart(up, wires)
+    keys = {member[0]: key_of(member) for member in net[0]}
+    rows = []
+    for name in up:
+        key = sorted([keys[other] for one, other in apart if one == name])[0]
+        steps = apart[(name, key[2])]
+        near = [end for wire in wires if name in wire for end in wire if end != name and end in up]
+        who = name if steps == 0 else sorted([end for end in near if apart[(end, key[2])] == steps - 1])[0]
+        rows.append((name, key, steps, who))
+    return tuple(rows)
+
+
 def only_tuples(thing):
     """Whether there is no list in it, and no kind of tuple of another name."""
     if isinstance(thing, (list, tuple)):

@@ -21,6 +21,13 @@ FUNCTIONS = {
     "keptchecker": ("lets_kept(history, event, thing)",),
     "followchecker": ("lets_follow_ring(pairs, thing)",),
     "readings": ("read_row(text)", "read_log(lines)"),
+    "worlds": ("is_world(history, thing)", "world_bars(history, world)", "source_times(history, world)"),
+    "worldchecker": ("lets_world(history, thing)",),
+    "relays": ("relay_bounds(history, relay)", "relay_from(history, x, y)"),
+    "relaychecker": ("lets_relay(history, thing)",),
+    "net_trees": ("pieces_of(net, up, wires)", "tree_paper(net, up, wires)"),
+    "logs": ("is_log(thing)",),
+    "replaying": ("replayed(log)",),
 }
 CLASSES = {
     "court": {"Court": ("__init__(self, field, members, wires, *, most=4, age=1)", "note(self, house, stamp, deed)",

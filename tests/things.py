@@ -233,6 +233,19 @@ def bars(history, ring):
     return way_sum(history, start, start, ring) < 0
 
 
+def oracle_bars(history, world):
+    """The number of the first STEP that bars a WORLD by [4], with Fractions; None where it FITS."""
+    for number, (x, y, w) in enumerate(oracle_steps(history)):
+        if number_of(world[y]) > number_of(world[x]) + number_of(w):
+            return number
+    return None
+
+
+def world_of(truth):
+    """True times, a list of Fractions, as a WORLD."""
+    return tuple([pair_of(moment) for moment in truth])
+
+
 def oracle_heard(history, number):
     """What an EVENT HAS HEARD by [6], a sorted list."""
     events = history[1]
