@@ -36,10 +36,15 @@ def moved_end(move, pairs, side):
 def first_void(history):
     """The number of the first EVENT whose KEPT pair is VOID, None where none is."""
     for number, pair in enumerate(kept_pairs(history)):
-        low, high = pair
-        if low is not None and high is not None and is_below(high, low):
+        if is_void(pair):
             return number
     return None
+
+
+def is_void(pair):
+    """Whether a pair is VOID: both ends are told, and low is above high."""
+    low, high = pair
+    return low is not None and high is not None and is_below(high, low)
 
 
 def kept_paper(history, event):

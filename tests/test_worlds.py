@@ -66,7 +66,8 @@ class TestIsWorld(unittest.TestCase):
 
 class TestWorldBars(unittest.TestCase):
     def test_by_each_kind_of_step(self):
-        for world, number in ((WORLD, None), (((0, 1), (4, 1), (7, 1), (4, 1)), 0), (((0, 1), (3, 1), (6, 1), (4, 1)), None),
+        for world, number in ((WORLD, None), (((0, 1), (4, 1), (7, 1), (4, 1)), 0),
+                              (((0, 1), (3, 1), (6, 1), (4, 1)), None),
                               (((0, 1), (1, 2), (4, 1), (4, 1)), 1), (((0, 1), (1, 1), (4, 1), (4, 1)), None),
                               (((0, 1), (2, 1), (9, 1), (4, 1)), 2), (((0, 1), (2, 1), (8, 1), (4, 1)), None),
                               (((0, 1), (2, 1), (3, 1), (4, 1)), 3), (((0, 1), (2, 1), (4, 1), (4, 1)), None),
